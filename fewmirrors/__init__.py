@@ -1,0 +1,1 @@
+"""Fewmirrors: moves that keep a form, and the fewest mirrors that make them."""

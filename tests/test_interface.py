@@ -1,0 +1,57 @@
+"""Names, arguments and default values, as the document's interface tells them."""
+
+import inspect
+import unittest
+
+from fewmirrors import errors, numbers, tables
+
+FUNCTIONS = {
+    numbers: {
+        "is_ground": "(thing)", "is_number": "(ground, thing)", "number": "(ground, top, bottom=1)",
+        "plus": "(ground, x, y)", "less": "(ground, x, y)", "times": "(ground, x, y)", "over": "(ground, x, y)",
+        "is_square": "(ground, x)", "root_of": "(ground, x)", "show_number": "(x)",
+    },
+    tables: {
+        "is_row": "(ground, thing, many)", "is_table": "(ground, thing, high, wide)",
+        "through": "(ground, row, table)", "product": "(ground, one, other)", "turned": "(table)",
+        "determinant": "(ground, table)", "back": "(ground, table)", "least_rows": "(ground, rows)",
+        "nought_rows": "(ground, table)", "show_row": "(row)", "show_table": "(table)",
+    },
+    errors: {"NotKept": "(one, other)"},
+}
+
+
+class Interface(unittest.TestCase):
+    def test_arguments(self):
+        for module, functions in FUNCTIONS.items():
+            for name, arguments in functions.items():
+                with self.subTest(name):
+                    self.assertEqual(str(inspect.signature(getattr(module, name))), arguments)
+
+    def test_arguments_by_their_names(self):
+        half, table = (1, 2), (((1, 1), (1, 2)), ((0, 1), (1, 1)))
+        self.assertIs(numbers.is_ground(thing=5), True)
+        self.assertIs(numbers.is_number(thing=half, ground=0), True)
+        self.assertEqual(numbers.number(bottom=4, top=2, ground=0), half)
+        self.assertEqual(numbers.plus(y=half, x=(2, 1), ground=0), (5, 2))
+        self.assertEqual(numbers.less(y=half, x=(2, 1), ground=0), (3, 2))
+        self.assertEqual(numbers.times(y=half, x=(3, 1), ground=0), (3, 2))
+        self.assertEqual(numbers.over(y=half, x=(3, 1), ground=0), (6, 1))
+        self.assertIs(numbers.is_square(x=half, ground=0), False)
+        self.assertEqual(numbers.root_of(x=(1, 4), ground=0), half)
+        self.assertEqual(numbers.show_number(x=half), "1/2")
+        self.assertIs(tables.is_row(many=1, thing=(half,), ground=0), True)
+        self.assertIs(tables.is_table(wide=2, high=1, thing=((half, half),), ground=0), True)
+        self.assertEqual(tables.through(table=table, row=((2, 1), (0, 1)), ground=0), ((2, 1), (1, 1)))
+        self.assertEqual(tables.product(other=table, one=((half, half),), ground=0), (((1, 2), (3, 4)),))
+        self.assertEqual(tables.turned(table=((half, (1, 1)),)), ((half,), ((1, 1),)))
+        self.assertEqual(tables.determinant(table=table, ground=0), (1, 1))
+        self.assertEqual(tables.back(table=table, ground=0), (((1, 1), (-1, 2)), ((0, 1), (1, 1))))
+        self.assertEqual(tables.least_rows(rows=((half,),), ground=0), (((1, 1),),))
+        self.assertEqual(tables.nought_rows(table=((half,),), ground=0), ())
+        self.assertEqual(tables.show_row(row=(half, half)), "1/2 1/2")
+        self.assertEqual(tables.show_table(table=((half,), (half,))), "1/2 / 1/2")
+
+
+if __name__ == "__main__":
+    unittest.main()
