@@ -5,7 +5,7 @@ sought once for each number that is told, not once for each step that leads to i
 """
 
 from fewmirrors.errors import Flat
-from fewmirrors.numbers import is_number, lowest, show_number
+from fewmirrors.numbers import is_number, less, lowest, plus, show_number, times
 from fewmirrors.wholes import common_divisor
 
 
@@ -36,8 +36,8 @@ def product_row(ground, row, columns):
     return tuple([lowest(ground, dot(tops, column), bottom * under) for column, under in columns])
 
 
-def dot(ones, others):
-    return sum([one * other for one, other in zip(ones, others)])
+def dot(wholes, others):
+    return sum([whole * other for whole, other in zip(wholes, others)])
 
 
 def whole_row(row):
@@ -46,6 +46,13 @@ def whole_row(row):
     for x in row:
         bottom = bottom // common_divisor(bottom, x[1]) * x[1]
     return ([x[0] * (bottom // x[1]) for x in row], bottom)
+
+
+def whole_table(table):
+    """The table's rows as whole numbers, and the bottom that they all are over."""
+    wide = len(table[0])
+    tops, bottom = whole_row([x for row in table for x in row])
+    return ([tops[at:at + wide] for at in range(0, len(tops), wide)], bottom)
 
 
 def turned(table):
@@ -112,9 +119,13 @@ def beside_ones(ground, table):
 
     Each of them is, right, a row that the table leads to what stands left.
     """
-    many = len(table)
-    ones = [tuple([(1, 1) if at == place else (0, 1) for at in range(many)]) for place in range(many)]
+    ones = table_of_ones(len(table))
     return least_rows(ground, tuple([row + one for row, one in zip(table, ones)]))
+
+
+def table_of_ones(many):
+    """Ones from the first corner to the last, and noughts else."""
+    return tuple([tuple([(1, 1) if at == place else (0, 1) for at in range(many)]) for place in range(many)])
 
 
 def is_all_nought(row):
@@ -159,10 +170,39 @@ def plain(ground, row):
     return [x // shared for x in row]
 
 
+def plain_row(ground, row):
+    """A multiple of the row, of whole numbers as small as can be."""
+    return tuple([(x, 1) for x in plain(ground, whole_row(row)[0])])
+
+
 def headed(ground, row):
     """The row of numbers that has a 1 as its head."""
     head = [x for x in row if x != 0][0]
     return tuple([lowest(ground, x, head) for x in row])
+
+
+def row_plus(ground, row, other):
+    return tuple([plus(ground, x, y) for x, y in zip(row, other)])
+
+
+def row_less(ground, row, other):
+    return tuple([less(ground, x, y) for x, y in zip(row, other)])
+
+
+def row_times(ground, row, factor):
+    return tuple([times(ground, x, factor) for x in row])
+
+
+def table_plus(ground, one, other):
+    return tuple([row_plus(ground, row, beside) for row, beside in zip(one, other)])
+
+
+def table_less(ground, one, other):
+    return tuple([row_less(ground, row, beside) for row, beside in zip(one, other)])
+
+
+def table_times(ground, table, factor):
+    return tuple([row_times(ground, row, factor) for row in table])
 
 
 def show_row(row):

@@ -3,7 +3,7 @@
 import inspect
 import unittest
 
-from fewmirrors import errors, numbers, tables
+from fewmirrors import errors, exchanges, fewest, forms, keepers, leading, lengths, numbers, seats, tables
 
 FUNCTIONS = {
     numbers: {
@@ -18,6 +18,25 @@ FUNCTIONS = {
         "nought_rows": "(ground, table)", "show_row": "(row)", "show_table": "(table)",
     },
     errors: {"NotKept": "(one, other)"},
+    forms: {"Form": "(table, ground=0)"},
+    keepers: {
+        "Keeper": "(form, table)", "same": "(form)", "mirror": "(form, row)", "made_of": "(form, rows)",
+    },
+    leading: {"leading": "(form, row, other)", "led": "(form, row, other)"},
+    seats: {"seats_of": "(keeper)", "keeper_of": "(form, rows, seats)"},
+    fewest: {"least_count": "(keeper)", "mirrors_of": "(keeper)", "begun_by": "(keeper, row)"},
+    exchanges: {"exchanged": "(form, rows, place)", "otherwise": "(form, row, other, first)"},
+    lengths: {"length_class": "(keeper)", "are_alike": "(ground, x, y)"},
+}
+METHODS = {
+    forms.Form: {
+        "worth": "(self, row)", "pair": "(self, row, other)", "upright": "(self, rows)", "frame": "(self)",
+        "__eq__": "(self, other)", "__len__": "(self)", "__str__": "(self)", "__repr__": "(self)",
+    },
+    keepers.Keeper: {
+        "of": "(self, row)", "then": "(self, other)", "back": "(self)", "hand": "(self)", "moved": "(self)",
+        "still": "(self)", "__eq__": "(self, other)", "__len__": "(self)", "__str__": "(self)", "__repr__": "(self)",
+    },
 }
 
 
@@ -27,6 +46,13 @@ class Interface(unittest.TestCase):
             for name, arguments in functions.items():
                 with self.subTest(name):
                     self.assertEqual(str(inspect.signature(getattr(module, name))), arguments)
+
+    def test_methods_stand_in_their_classes_themselves(self):
+        for kind, methods in METHODS.items():
+            for name, arguments in methods.items():
+                with self.subTest(f"{kind.__name__}.{name}"):
+                    self.assertIn(name, vars(kind))
+                    self.assertEqual(str(inspect.signature(vars(kind)[name])), arguments)
 
     def test_arguments_by_their_names(self):
         half, table = (1, 2), (((1, 1), (1, 2)), ((0, 1), (1, 1)))

@@ -20,6 +20,11 @@ BARRED_WORDS = (
     "NamedTuple TypedDict TYPE_CHECKING abstractmethod"
 ).split()
 DOUBLE = ("__init__", "__eq__", "__repr__", "__str__", "__len__")
+BUILTIN_METHODS = set(
+    "append clear copy count endswith extend find get index insert isalnum isalpha isdigit islower isspace isupper "
+    "items join keys ljust lower lstrip partition pop remove replace reverse rfind rjust rpartition rsplit rstrip "
+    "setdefault split splitlines startswith strip update upper values zfill bit_length".split()
+)
 
 
 def nodes(kind):
@@ -112,7 +117,62 @@ class Names(unittest.TestCase):
                 self.assertIn(node.id, BUILTINS, name)
 
 
+def own_methods():
+    return {node.name for name, kind in nodes(ast.ClassDef) for node in kind.body if isinstance(node, ast.FunctionDef)}
+
+
+def given_attributes():
+    return {node.attr for name, node in nodes(ast.Attribute) if isinstance(node.ctx, ast.Store)}
+
+
+class Classes(unittest.TestCase):
+    def test_only_these_double_underscore_methods(self):
+        self.assertEqual({name for name in own_methods() if name.startswith("_")} - set(DOUBLE), set())
+
+    def test_no_name_is_a_method_here_and_an_attribute_there(self):
+        self.assertEqual(own_methods() & given_attributes(), set())
+
+    def test_attributes_that_are_read_are_given(self):
+        called = {id(node.func) for name, node in nodes(ast.Call)}
+        for name, node in nodes(ast.Attribute):
+            if id(node) in called:
+                self.assertIn(node.attr, own_methods() | BUILTIN_METHODS, name)
+            else:
+                self.assertIn(node.attr, given_attributes(), name)
+
+    def test_forms_and_keepers_never_change(self):
+        for name, node in nodes(ast.FunctionDef):
+            stores = [x for x in ast.walk(node) if isinstance(x, ast.Attribute) and not isinstance(x.ctx, ast.Load)]
+            if name in ("forms", "keepers"):
+                self.assertTrue(not stores or node.name == "__init__", (name, node.name))
+
+    def test_double_underscore_methods_give_no_values(self):
+        for name, node in nodes(ast.FunctionDef):
+            if node.name in DOUBLE[1:]:
+                given = [x for x in ast.walk(node) if isinstance(x, (ast.Assign, ast.AugAssign, ast.Delete))]
+                self.assertEqual(given, [], (name, node.name))
+
+    def test_what_length_and_texts_return(self):
+        for name, node in nodes(ast.FunctionDef):
+            told = [x.value for x in ast.walk(node) if isinstance(x, ast.Return)]
+            if node.name == "__len__":
+                self.assertTrue(all(isinstance(x, ast.Call) and x.func.id == "len" for x in told), name)
+            if node.name in ("__str__", "__repr__"):
+                self.assertTrue(all(isinstance(x, ast.JoinedStr) for x in told), name)
+
+
 class Expressions(unittest.TestCase):
+    def test_keywords_of_builtins(self):
+        for name, node in nodes(ast.Call):
+            if isinstance(node.func, ast.Name) and hasattr(builtins, node.func.id):
+                self.assertLessEqual({x.arg for x in node.keywords}, {"key", "reverse", "start"}, name)
+
+    def test_raised_on_the_spot(self):
+        errors = defined_names(TREES["errors"])
+        for name, node in nodes(ast.Raise):
+            self.assertIsInstance(node.exc, ast.Call, name)
+            self.assertIn(node.exc.func.id, errors, name)
+
     def test_barred_statements(self):
         barred = (ast.Global, ast.AsyncFunctionDef, ast.AsyncFor, ast.AsyncWith, ast.Await)
         self.assertEqual(nodes(barred), [])
