@@ -9,7 +9,7 @@ products. So least rows of mirrors are found within the space, and no keeper is 
 from fewmirrors.forms import products, row_of_worth, want_rows, want_worths, worth_of
 from fewmirrors.numbers import less, number, over, plus, times
 from fewmirrors.seats import seats_of, twice
-from fewmirrors.tables import plain_row, product, row_less, row_times, table_of_ones, through, turned
+from fewmirrors.tables import head_of, plain_row, product, row_less, row_times, table_of_ones, through, turned
 
 
 def least_count(keeper):
@@ -63,10 +63,6 @@ def factors_of(ground, rows, row):
     if through(ground, factors, rows) != row:
         return None
     return factors
-
-
-def head_of(row):
-    return [x[0] != 0 for x in row].index(True)
 
 
 def begun_outside(form, rows, seats, first):

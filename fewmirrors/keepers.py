@@ -109,11 +109,15 @@ def mirror(form, row):
 
 def made_of(form, rows):
     """The keeper that does the mirrors by these rows one after another, from the first."""
-    want_list_of_rows(form, rows)
-    if len(rows) > MOST_MIRRORS:
-        raise TooMany("a row of mirrors has at most sixteen")
-    want_worths(form, rows)
+    want_mirrors(form, rows)
     return Keeper(form, mirrors_table(form, rows))
+
+
+def want_mirrors(form, thing):
+    want_list_of_rows(form, thing)
+    if len(thing) > MOST_MIRRORS:
+        raise TooMany("a row of mirrors has at most sixteen")
+    want_worths(form, thing)
 
 
 def mirrors_table(form, rows):

@@ -132,6 +132,11 @@ def is_all_nought(row):
     return all([x[0] == 0 for x in row])
 
 
+def head_of(row):
+    """The place of the first number other than nought."""
+    return [x[0] != 0 for x in row].index(True)
+
+
 def least_rows(ground, rows):
     wholes = [plain(ground, whole_row(row)[0]) for row in rows]
     return tuple([headed(ground, row) for row in least_wholes(ground, wholes)])

@@ -4,9 +4,10 @@ from fractions import Fraction
 from itertools import permutations, product as ways
 from random import Random
 
-from fewmirrors.errors import MirrorError, NoName
+from fewmirrors.errors import Flat, MirrorError, NoName
 from fewmirrors.forms import Form
 from fewmirrors.keepers import Keeper
+from fewmirrors.lines import Line
 from fewmirrors.numbers import number
 from fewmirrors.tables import back, determinant, product, turned
 
@@ -113,6 +114,15 @@ def plain_determinant(ground, table):
     return expected(ground, total)
 
 
+def plain_sum(ground, one, other):
+    """The sum of two tables."""
+    return tuple(row_sum(ground, *pair) for pair in zip(one, other))
+
+
+def plain_gap(ground, one, other):
+    return tuple(row_gap(ground, *pair) for pair in zip(one, other))
+
+
 def all_rows(wheel, many):
     return list(ways([(a, 1) for a in range(wheel)], repeat=many))
 
@@ -149,10 +159,20 @@ def refusal(function, *arguments):
     return None
 
 
+def flat_rank(function, *arguments):
+    """The rank told where a function refuses with Flat, or None."""
+    try:
+        function(*arguments)
+    except Flat as error:
+        return error.rank
+    return None
+
+
 def objects():
     """Objects of the package: any things too."""
     form = Form(ones(2))
-    return [form, Form(ones(3), 7), Keeper(form, ones(2)), [form], (Keeper(form, ones(2)),), (form, ones(2))]
+    told = [form, Form(ones(3), 7), Keeper(form, ones(2)), [form], (Keeper(form, ones(2)),), (form, ones(2))]
+    return told + [Line(form), Line(form, list(ones(2))), [Line(form)], (Line(form), Line(form))]
 
 
 def is_none_of(form, thing):
@@ -363,6 +383,21 @@ def rank(ground, rows):
 def cleared_row(ground, row, head, at):
     factor = as_fraction(expected(ground, row[at] / as_fraction(expected(ground, head[at]))))
     return [as_fraction(expected(ground, x - factor * y)) for x, y in zip(row, head)]
+
+
+def plain_back(ground, table):
+    """What comes to ones, times the table, by plain steps; the table isn't flat."""
+    many = len(table)
+    left = [[as_fraction(x) for x in row + one] for row, one in zip(table, ones(many))]
+    for at in range(many):
+        place = next(place for place in range(at, many) if expected(ground, left[place][at]) != (0, 1))
+        left[at], left[place] = left[place], left[at]
+        head = as_fraction(expected(ground, 1 / left[at][at]))
+        left[at] = [as_fraction(expected(ground, x * head)) for x in left[at]]
+        for place in range(many):
+            if place != at:
+                left[place] = cleared_row(ground, left[place], left[at], at)
+    return tuple(tuple(expected(ground, x) for x in row[many:]) for row in left)
 
 
 class AllKeepers:

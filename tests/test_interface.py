@@ -3,7 +3,9 @@
 import inspect
 import unittest
 
-from fewmirrors import errors, exchanges, fewest, forms, keepers, leading, lengths, numbers, seats, tables
+from fewmirrors import (
+    contraries, errors, exchanges, fewest, forms, fours, keepers, leading, lengths, lines, numbers, seats, tables,
+)
 
 FUNCTIONS = {
     numbers: {
@@ -27,6 +29,12 @@ FUNCTIONS = {
     fewest: {"least_count": "(keeper)", "mirrors_of": "(keeper)", "begun_by": "(keeper, row)"},
     exchanges: {"exchanged": "(form, rows, place)", "otherwise": "(form, row, other, first)"},
     lengths: {"length_class": "(keeper)", "are_alike": "(ground, x, y)"},
+    contraries: {"contrary_of": "(keeper)", "keeper_by": "(form, table)", "signs_for": "(keeper)"},
+    fours: {
+        "four_times": "(ground, one, other)", "norm_of": "(ground, four)", "turn_of": "(ground, four)",
+        "four_of": "(keeper)", "double_turn": "(ground, one, other)", "pair_of": "(keeper)",
+    },
+    lines: {"Line": "(form, rows=None)"},
 }
 METHODS = {
     forms.Form: {
@@ -36,6 +44,10 @@ METHODS = {
     keepers.Keeper: {
         "of": "(self, row)", "then": "(self, other)", "back": "(self)", "hand": "(self)", "moved": "(self)",
         "still": "(self)", "__eq__": "(self, other)", "__len__": "(self)", "__str__": "(self)", "__repr__": "(self)",
+    },
+    lines.Line: {
+        "put": "(self, row, front=False)", "take": "(self, front=False)", "rows": "(self)", "keeper": "(self)",
+        "shorten": "(self)", "__eq__": "(self, other)", "__len__": "(self)", "__str__": "(self)", "__repr__": "(self)",
     },
 }
 

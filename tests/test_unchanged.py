@@ -4,13 +4,16 @@ import copy
 import unittest
 from random import Random
 
-from fewmirrors.errors import MirrorError
+from fewmirrors.contraries import contrary_of, keeper_by, signs_for
+from fewmirrors.errors import Flat, MirrorError
 from fewmirrors.exchanges import exchanged, otherwise
 from fewmirrors.fewest import begun_by, least_count, mirrors_of
 from fewmirrors.forms import Form
+from fewmirrors.fours import double_turn, four_of, four_times, norm_of, pair_of, turn_of
 from fewmirrors.keepers import Keeper, made_of, mirror, same
 from fewmirrors.leading import leading, led
 from fewmirrors.lengths import are_alike, length_class
+from fewmirrors.lines import Line
 from fewmirrors.seats import keeper_of, seats_of
 from tests.helper import GROUNDS, multiple, ones, sample_forms, sliding, some_mirrors
 
@@ -20,6 +23,7 @@ def questions(form, keeper, rows):
     one, other = rows[0], rows[1]
     space, seats = seats_of(keeper)
     nought = ((0, 1),) * len(form.table)
+    four = (one + other + ((1, 1),) * 4)[:4]
     return [
         (Form, [form.table, form.ground]), (form.worth, [one]), (form.pair, [one, other]),
         (form.upright, [tuple(rows)]), (form.frame, []), (str, [form]), (repr, [keeper]), (len, [keeper]),
@@ -34,13 +38,29 @@ def questions(form, keeper, rows):
         (length_class, [keeper]), (are_alike, [form.ground, (1, 1), (2, 1)]),
         (are_alike, [form.ground, (1, 1), (0, 1)]),
         (Keeper, [form, (nought,) * len(form.table)]), (Form, [(nought,), form.ground]), (mirror, [form, nought]),
+        (contrary_of, [keeper]), (keeper_by, [form, (nought,) * len(form.table)]), (keeper_by, [form, form.table]),
+        (signs_for, [keeper]), (four_times, [form.ground, four, four]), (norm_of, [form.ground, four]),
+        (turn_of, [form.ground, four]), (turn_of, [form.ground, list(four)]), (four_of, [keeper]),
+        (double_turn, [form.ground, four, four]), (double_turn, [form.ground, four, rows]), (pair_of, [keeper]),
+        (line_told, [form, rows]), (line_told, [form, rows * 5]), (line_told, [form, rows * 9]),
+        (line_told, [form, rows + [None]]), (Line, [form, rows]), (Line, [form]),
     ]
+
+
+def line_told(form, rows):
+    """What a line tells from step to step."""
+    line = Line(form, rows)
+    told = [line.rows(), line.keeper(), len(line), str(line)]
+    line.put(rows[0], True)
+    told += [line.rows(), line.take(), line.take(True)]
+    line.shorten()
+    return told + [line.rows(), repr(line)]
 
 
 def answer(function, arguments):
     try:
         return function(*arguments)
-    except MirrorError as error:
+    except (MirrorError, Flat) as error:
         return (type(error), vars(error))
 
 
