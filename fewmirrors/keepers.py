@@ -121,6 +121,20 @@ def want_mirrors(form, thing):
 
 
 def mirrors_table(form, rows):
+    tops, bottom = whole_mirrors(form, rows)
+    return tuple([tuple([lowest(form.ground, x, bottom) for x in line]) for line in tops])
+
+
+def is_made_of(form, table, rows):
+    """Whether the table is what the mirrors by these rows make."""
+    tops, bottom = whole_mirrors(form, rows)
+    # Both sides stay whole numbers, so that no common divisor is sought.
+    gaps = [x * y[1] - y[0] * bottom for line, row in zip(tops, table) for x, y in zip(line, row)]
+    return all([is_nought_on(form.ground, gap) for gap in gaps])
+
+
+def whole_mirrors(form, rows):
+    """The table that the mirrors by these rows make, as whole numbers over one bottom."""
     # A multiple of a row, or of the form's table, has the same mirror: so both are taken as whole
     # numbers, and the product of the worths is the one bottom of all that comes.
     shape = whole_table(form.table)[0]
@@ -132,7 +146,7 @@ def mirrors_table(form, rows):
         worth = dot(by, led)
         tops = [mirrored(line, by, led, worth) for line in tops]
         bottom *= worth
-    return tuple([tuple([lowest(form.ground, x, bottom) for x in line]) for line in tops])
+    return (tops, bottom)
 
 
 def mirrored(line, by, led, worth):

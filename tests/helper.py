@@ -4,6 +4,7 @@ from fractions import Fraction
 from itertools import permutations, product as ways
 from random import Random
 
+from fewmirrors.desk import Desk
 from fewmirrors.errors import Flat, MirrorError, NoName
 from fewmirrors.forms import Form
 from fewmirrors.keepers import Keeper
@@ -172,7 +173,8 @@ def objects():
     """Objects of the package: any things too."""
     form = Form(ones(2))
     told = [form, Form(ones(3), 7), Keeper(form, ones(2)), [form], (Keeper(form, ones(2)),), (form, ones(2))]
-    return told + [Line(form), Line(form, list(ones(2))), [Line(form)], (Line(form), Line(form))]
+    told += [Line(form), Line(form, list(ones(2))), [Line(form)], (Line(form), Line(form))]
+    return told + [Desk(form), [Desk(form)], (Desk(form), 1)]
 
 
 def is_none_of(form, thing):

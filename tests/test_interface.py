@@ -4,7 +4,8 @@ import inspect
 import unittest
 
 from fewmirrors import (
-    contraries, errors, exchanges, fewest, forms, fours, keepers, leading, lengths, lines, numbers, seats, tables,
+    contraries, counting, desk, errors, exchanges, fewest, forms, fours, keepers, leading, lengths, lines, numbers,
+    papers, seats, tables, texts,
 )
 
 FUNCTIONS = {
@@ -35,6 +36,12 @@ FUNCTIONS = {
         "four_of": "(keeper)", "double_turn": "(ground, one, other)", "pair_of": "(keeper)",
     },
     lines: {"Line": "(form, rows=None)"},
+    counting: {
+        "keepers_on": "(form, wanted=None)", "how_many": "(form)", "by_count": "(form)", "ways_of": "(keeper)",
+    },
+    papers: {"holds": "(form, claim, paper)", "paper_of": "(form, claim)"},
+    texts: {"read_form": "(text)", "read_keeper": "(text)"},
+    desk: {"Desk": "(form)"},
 }
 METHODS = {
     forms.Form: {
@@ -49,6 +56,7 @@ METHODS = {
         "put": "(self, row, front=False)", "take": "(self, front=False)", "rows": "(self)", "keeper": "(self)",
         "shorten": "(self)", "__eq__": "(self, other)", "__len__": "(self)", "__str__": "(self)", "__repr__": "(self)",
     },
+    desk.Desk: {"say": "(self, row)"},
 }
 
 

@@ -5,7 +5,9 @@ import unittest
 from random import Random
 
 from fewmirrors.contraries import contrary_of, keeper_by, signs_for
-from fewmirrors.errors import Flat, MirrorError
+from fewmirrors.counting import by_count, how_many, keepers_on, ways_of
+from fewmirrors.desk import Desk
+from fewmirrors.errors import Flat, MirrorError, NoName
 from fewmirrors.exchanges import exchanged, otherwise
 from fewmirrors.fewest import begun_by, least_count, mirrors_of
 from fewmirrors.forms import Form
@@ -14,7 +16,9 @@ from fewmirrors.keepers import Keeper, made_of, mirror, same
 from fewmirrors.leading import leading, led
 from fewmirrors.lengths import are_alike, length_class
 from fewmirrors.lines import Line
+from fewmirrors.papers import holds, paper_of
 from fewmirrors.seats import keeper_of, seats_of
+from fewmirrors.texts import read_form, read_keeper
 from tests.helper import GROUNDS, multiple, ones, sample_forms, sliding, some_mirrors
 
 
@@ -43,7 +47,13 @@ def questions(form, keeper, rows):
         (turn_of, [form.ground, four]), (turn_of, [form.ground, list(four)]), (four_of, [keeper]),
         (double_turn, [form.ground, four, four]), (double_turn, [form.ground, four, rows]), (pair_of, [keeper]),
         (line_told, [form, rows]), (line_told, [form, rows * 5]), (line_told, [form, rows * 9]),
-        (line_told, [form, rows + [None]]), (Line, [form, rows]), (Line, [form]),
+        (line_told, [form, rows + [None]]), (Line, [form, rows]), (Line, [form]), (how_many, [form]),
+        (by_count, [form]), (keepers_on, [form]),
+        (ways_of, [keeper]), (holds, [form, ("led", one, one), ([], (1, 1))]), (holds, [form, ["made"], rows]),
+        (paper_of, [form, ("led", one, keeper.of(one))]), (paper_of, [form, ("made", keeper.table, 5)]),
+        (paper_of, [form, ("seat", keeper.table)]), (paper_of, [form, rows]), (read_form, [str(form)]),
+        (read_form, ["1 " + str(form)]), (read_keeper, [str(keeper)]), (read_keeper, [rows]),
+        (desk_told, [form, str(keeper).split(" on ")[0]]), (desk_told, [form, "1 a"]),
     ]
 
 
@@ -57,10 +67,17 @@ def line_told(form, rows):
     return told + [line.rows(), repr(line)]
 
 
+def desk_told(form, table):
+    """What a desk tells from step to step."""
+    desk = Desk(form)
+    rows = [f"keeper a {table}", "then b a a", "back c b", "names", "show c", "mirrors b", "drop a", "names", "show a"]
+    return [answer(desk.say, [row]) for row in rows]
+
+
 def answer(function, arguments):
     try:
         return function(*arguments)
-    except (MirrorError, Flat) as error:
+    except (MirrorError, Flat, NoName) as error:
         return (type(error), vars(error))
 
 
