@@ -14,7 +14,7 @@ from fewmirrors.wholes import is_whole
 
 
 def is_claim(form, thing):
-    if not isinstance(thing, tuple) or not thing or not isinstance(thing[0], str):
+    if not isinstance(thing, tuple) or not thing:
         return False
     if thing[0] in ("made", "fewest"):
         return len(thing) == 3 and is_square_table(form, thing[1]) and is_mirror_count(thing[2])
@@ -87,11 +87,7 @@ def shows_seat(form, claim, paper):
     if not is_pair(paper) or first_changed(form, claim[1]) is not None:
         return False
     space, seats = paper
-    if not is_moved_space(form, claim[1], space):
-        return False
-    if not space:
-        return isinstance(seats, tuple) and len(seats) == 0
-    if not is_table(form.ground, seats, len(space), len(space)):
+    if not is_moved_space(form, claim[1], space) or not is_table(form.ground, seats, len(space), len(space)):
         return False
     return paper == seats_of(Keeper(form, claim[1]))
 
